@@ -1,0 +1,1 @@
+"""Slopewords: functions of x modulo a small prime, and linear slope equations over them."""

@@ -1,0 +1,1 @@
+"""Polynomials modulo a small prime."""

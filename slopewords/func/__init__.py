@@ -1,0 +1,1 @@
+"""Functions: quotients of polynomials, their places and their slopes."""

@@ -1,0 +1,83 @@
+"""Elimination in tables of polynomials of any degrees, without checks of what is passed.
+
+All steps stay among polynomials: each entry is a determinant of entries that were passed, so that degrees stay low.
+"""
+
+from slopewords.base.arithmetic import add_scaled, multiply, quotient_of, scale
+
+
+def cleared(prime, row, lead_row, column, last):
+    """A row times the lead, less a multiple of the row of the lead, divided by the last lead."""
+    lead = lead_row[column]
+    factor = scale(prime, row[column], prime - 1)
+    if not factor and lead == last:
+        return row
+    found = []
+    for number, further in zip(row, lead_row):
+        entry = multiply(prime, lead, number)
+        if factor and further:
+            entry = add_scaled(prime, entry, multiply(prime, factor, further), 1)
+        found.append(quotient_of(prime, entry, last))
+    return found
+
+
+def lead_place(rows, start, column):
+    """The index from start on of the row with the shortest entry other than () in a column, or None."""
+    usable = [(len(rows[place][column]), place) for place in range(start, len(rows)) if rows[place][column]]
+    return min(usable)[1] if usable else None
+
+
+def eliminate(prime, table, columns, *, whole):
+    """The quadruple of rows, the columns of their leads, the last lead, and the sign of the swaps.
+
+    Leads are looked for in so many columns. With whole, all rows have one lead, which stands alone in its column;
+    otherwise only the rows below a lead are cleared. Rows without a lead come last.
+    """
+    rows = [list(row) for row in table]
+    leads = []
+    last = (1,)
+    sign = 1
+    for column in range(columns):
+        rank = len(leads)
+        place = lead_place(rows, rank, column)
+        if place is None:
+            continue
+        if place != rank:
+            rows[rank], rows[place] = rows[place], rows[rank]
+            sign = -sign
+        for number in range(0 if whole else rank + 1, len(rows)):
+            if number != rank:
+                rows[number] = cleared(prime, rows[number], rows[rank], column, last)
+        last = rows[rank][column]
+        leads.append(column)
+    return rows, leads, last, sign
+
+
+def count_rank(prime, table):
+    """The rank of a table of polynomials."""
+    return len(eliminate(prime, table, len(table[0]), whole=False)[1])
+
+
+def own_numbers(prime, table):
+    """The polynomials at y ** n, .., y ** 0 in the determinant of y less a square table, by Berkowitz's way.
+
+    This needs no division, so nothing that is worked out is longer than the answer.
+    """
+    numbers = [(1,)]
+    for size in range(len(table)):
+        row, column = table[size][:size], [line[size] for line in table[:size]]
+        steps = [(1,), scale(prime, table[size][size], prime - 1)]
+        for _ in range(size):
+            steps.append(scale(prime, sum_of_products(prime, row, column), prime - 1))
+            column = [sum_of_products(prime, line[:size], column) for line in table[:size]]
+        numbers = [sum_of_products(prime, steps[:place + 1][::-1], numbers) for place in range(size + 2)]
+    return numbers
+
+
+def sum_of_products(prime, ones, others):
+    """The sum of the products of polynomials in pairs."""
+    total = ()
+    for one, other in zip(ones, others):
+        if one and other:
+            total = add_scaled(prime, total, multiply(prime, one, other), 1)
+    return total

@@ -1,0 +1,1 @@
+"""Operators, and their division."""

@@ -1,0 +1,1 @@
+"""The tests of the package: python3 -m unittest discover -s tests -t ."""

@@ -1,0 +1,83 @@
+"""Every example of the document, with the answer that is printed there."""
+
+import importlib
+import pathlib
+import unittest
+
+FOLDER = pathlib.Path(__file__).parent / "examples"
+MODULES = (
+    "errors", "base.polys", "func.functions", "func.places", "func.slopes", "line.tables", "oper.operators",
+    "oper.division",
+)
+
+
+def read_names():
+    """All names of all modules."""
+    names = {}
+    for module in MODULES:
+        names.update(vars(importlib.import_module(f"slopewords.{module}")))
+    return names
+
+
+def read_examples(stage):
+    """The pairs of a line of code and of the lines printed below it."""
+    found = []
+    for line in (FOLDER / f"{stage}.txt").read_text().splitlines():
+        if line.startswith(">>> "):
+            found.append((line[4:], []))
+        else:
+            found[-1][1].append(line)
+    return found
+
+
+class ExamplesTest(unittest.TestCase):
+    """Each line is carried out, and what it gives is compared with what is printed."""
+
+    def check_stage(self, stage):
+        names = read_names()
+        for code, printed in read_examples("common") + read_examples(stage):
+            with self.subTest(code=code):
+                self.check_line(names, code, "\n".join(printed))
+
+    def check_line(self, names, code, printed):
+        if not printed:
+            exec(code, names)
+        elif printed.startswith("raises "):
+            self.check_raised(names, code, printed[len("raises "):])
+        else:
+            self.assertEqual(repr(eval(code, names)), repr(eval(printed)))
+
+    def check_raised(self, names, code, raised):
+        with self.assertRaises(names[raised.partition("(")[0]]) as caught:
+            eval(code, names)
+        if "(" in raised:
+            self.assertEqual(vars(caught.exception), vars(eval(raised, names)))
+
+    def test_counts(self):
+        for stage in range(1, 8):
+            self.assertGreaterEqual(len(read_examples(f"stage_{stage:02}")), 5)
+
+    def test_stage_1(self):
+        self.check_stage("stage_01")
+
+    def test_stage_2(self):
+        self.check_stage("stage_02")
+
+    def test_stage_3(self):
+        self.check_stage("stage_03")
+
+    def test_stage_4(self):
+        self.check_stage("stage_04")
+
+    def test_stage_5(self):
+        self.check_stage("stage_05")
+
+    def test_stage_6(self):
+        self.check_stage("stage_06")
+
+    def test_stage_7(self):
+        self.check_stage("stage_07")
+
+
+if __name__ == "__main__":
+    unittest.main()
