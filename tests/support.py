@@ -1,5 +1,6 @@
 """What several tests share: random values, wrong values, and the check of refusals."""
 
+import itertools
 import random
 
 from slopewords.errors import InvalidFunction, InvalidNumber, InvalidOperator, InvalidPlace, InvalidPoly
@@ -180,6 +181,25 @@ def split(passed):
     """The positional and the keyword arguments."""
     positional = [value for name, value in passed.items() if isinstance(name, int)]
     return positional, {name: value for name, value in passed.items() if isinstance(name, str)}
+
+
+def slow_product(prime, one, other):
+    """The product, straight from its definition."""
+    numbers = [0] * (len(one) + len(other))
+    for low, first in enumerate(one):
+        for high, second in enumerate(other):
+            numbers[low + high] = (numbers[low + high] + first * second) % prime
+    while numbers and numbers[-1] == 0:
+        numbers.pop()
+    return tuple(numbers)
+
+
+def slow_sum(prime, one, other):
+    """The sum, straight from its definition."""
+    numbers = [(first + second) % prime for first, second in itertools.zip_longest(one, other, fillvalue=0)]
+    while numbers and numbers[-1] == 0:
+        numbers.pop()
+    return tuple(numbers)
 
 
 class Source:

@@ -8,26 +8,7 @@ from slopewords.base.polys import is_irreducible, is_poly, poly_at, poly_divisio
 from slopewords.base.polys import poly_product, poly_slope, poly_sum
 from slopewords.errors import InvalidNumber, InvalidOperation, InvalidPoly
 from tests.support import KINDS, LONG, Source, check_refusals, number_kind, poly_kind, prime_kind, value_kind
-from tests.support import wrong_polys
-
-
-def slow_product(prime, one, other):
-    """The product, straight from its definition."""
-    numbers = [0] * (len(one) + len(other))
-    for low, first in enumerate(one):
-        for high, second in enumerate(other):
-            numbers[low + high] = (numbers[low + high] + first * second) % prime
-    while numbers and numbers[-1] == 0:
-        numbers.pop()
-    return tuple(numbers)
-
-
-def slow_sum(prime, one, other):
-    """The sum, straight from its definition."""
-    numbers = [(first + second) % prime for first, second in itertools.zip_longest(one, other, fillvalue=0)]
-    while numbers and numbers[-1] == 0:
-        numbers.pop()
-    return tuple(numbers)
+from tests.support import slow_product, slow_sum, wrong_polys
 
 
 def monics(prime, degree):

@@ -3,7 +3,7 @@
 from slopewords.base.arithmetic import add_scaled, is_within, multiply, power_of, slope_of
 from slopewords.errors import InvalidNumber, InvalidOperation
 from slopewords.func.functions import Function, check_function, check_same_prime, clear_bottoms, function_of
-from slopewords.oper.operators import Operator, add_entries, check_operator, made_operator, slope_entries
+from slopewords.oper.operators import Operator, check_operator, made_operator, slope_entries
 
 MOST_VALUES = 20
 MOST_POWER = 60

@@ -1,0 +1,150 @@
+"""The rules of the language that a program can see: sizes, characters, imports, names, and forms."""
+
+import ast
+import builtins
+import pathlib
+import unittest
+
+ROOT = pathlib.Path(__file__).parent.parent
+PACKAGE = ROOT / "slopewords"
+FILES = sorted(PACKAGE.rglob("*.py"))
+DECORATORS = {"property", "classmethod"}
+CALLED = {
+    "len", "range", "enumerate", "zip", "min", "max", "sum", "abs", "sorted", "reversed", "int", "str", "bool", "list",
+    "tuple", "dict", "isinstance", "any", "all", "divmod", "iter",
+}
+READ = CALLED | {"NotImplemented", "property", "classmethod"} | {
+    "ValueError", "TypeError", "KeyError", "IndexError", "LookupError", "ArithmeticError", "OverflowError"}
+METHODS = {
+    "append", "clear", "copy", "count", "endswith", "extend", "find", "get", "index", "insert", "items", "join", "keys",
+    "pop", "remove", "replace", "reverse", "split", "startswith", "strip", "values", "zfill", "bit_length",
+}
+BARRED = (ast.GeneratorExp, ast.Lambda, ast.Set, ast.SetComp, ast.Try, ast.With, ast.Global, ast.Nonlocal, ast.Import,
+          ast.AsyncFunctionDef, ast.Await, ast.NamedExpr, ast.YieldFrom, ast.Div)
+WORDS = {
+    "type", "typing", "enum", "register", "mro", "elements", "open", "input", "law", "eval", "exec", "compile", "id",
+    "vars", "globals", "locals", "getattr", "setattr", "hasattr", "format", "super",
+}
+
+
+def parse(path):
+    return ast.parse(path.read_text())
+
+
+def functions_of(tree):
+    return [node for node in ast.walk(tree) if isinstance(node, ast.FunctionDef)]
+
+
+def module_of(path):
+    return ".".join(path.relative_to(ROOT).with_suffix("").parts)
+
+
+def bound_names(tree):
+    """The names that a file binds at module level, except by imports."""
+    found = []
+    for node in tree.body:
+        if isinstance(node, (ast.FunctionDef, ast.ClassDef)):
+            found.append(node.name)
+        elif isinstance(node, ast.Assign):
+            found.extend(target.id for target in node.targets)
+    return found
+
+
+def imports_of(tree):
+    return [(node.module, alias.name, alias.asname) for node in tree.body if isinstance(node, ast.ImportFrom)
+            for alias in node.names]
+
+
+def local_names(function):
+    names = {argument.arg for argument in function.args.args + function.args.kwonlyargs}
+    return names | {node.id for node in ast.walk(function)
+                    if isinstance(node, ast.Name) and isinstance(node.ctx, ast.Store)}
+
+
+class LanguageTest(unittest.TestCase):
+    def each(self):
+        return [(path, parse(path)) for path in FILES]
+
+    def test_files(self):
+        for path in PACKAGE.rglob("*"):
+            if "__pycache__" not in path.parts:
+                self.assertTrue(path.is_dir() or path.suffix == ".py", path)
+                self.assertTrue(not path.is_dir() or (path / "__init__.py").is_file(), path)
+
+    def test_sizes_and_characters(self):
+        for path, tree in self.each():
+            lines = path.read_text().split("\n")
+            self.assertLessEqual(len(lines), 400)
+            self.assertLessEqual(max(map(len, lines)), 120)
+            self.assertTrue(all(" " <= sign <= "~" for line in lines for sign in line))
+            for function in functions_of(tree):
+                self.assertLessEqual(function.end_lineno - function.lineno + 1, 40, function.name)
+
+    def test_imports(self):
+        named = {module_of(path): (bound_names(parse(path)), imports_of(parse(path))) for path in FILES}
+        for path, tree in self.each():
+            own = bound_names(tree) + [name for _, name, _ in imports_of(tree)]
+            self.assertEqual(len(own), len(set(own)))
+            for module, name, other in imports_of(tree):
+                self.assertIn(name, named[module][0])
+                self.assertIsNone(other)
+        for start in named:
+            seen, rest = set(), [start]
+            while rest:
+                for module, _, _ in named[rest.pop()][1]:
+                    self.assertNotEqual(module, start)
+                    if module not in seen:
+                        seen.add(module)
+                        rest.append(module)
+
+    def test_all_imports_are_used(self):
+        for path, tree in self.each():
+            read = {node.id for node in ast.walk(tree) if isinstance(node, ast.Name)}
+            self.assertEqual({name for _, name, _ in imports_of(tree)} - read, set(), path)
+
+    def test_forms(self):
+        for _, tree in self.each():
+            for node in ast.walk(tree):
+                self.assertNotIsInstance(node, BARRED)
+                if isinstance(node, ast.FunctionDef):
+                    self.assertTrue(all(mark.id in DECORATORS for mark in node.decorator_list))
+                    self.assertEqual(functions_of(node), [node])
+                if isinstance(node, ast.BinOp) and isinstance(node.op, ast.Pow):
+                    self.assertIsInstance(node.right, ast.Constant)
+                if isinstance(node, ast.AugAssign):
+                    self.assertIsInstance(node.target, ast.Name)
+                    self.assertIsInstance(node.value, ast.Constant)
+                if isinstance(node, ast.Raise):
+                    self.assertTrue(node.exc.func.id)
+
+    def test_names(self):
+        for _, tree in self.each():
+            outer = set(bound_names(tree)) | {name for _, name, _ in imports_of(tree)}
+            self.assertFalse(outer & set(dir(builtins)))
+            for function in functions_of(tree):
+                names = local_names(function)
+                self.assertFalse(names & (outer | set(dir(builtins))), function.name)
+            for node in ast.walk(tree):
+                if isinstance(node, (ast.Name, ast.Attribute, ast.arg)):
+                    name = getattr(node, "id", None) or getattr(node, "attr", None) or node.arg
+                    self.assertNotIn(name, WORDS)
+                    self.assertFalse(name.startswith("__"))
+
+    def test_builtins_and_methods(self):
+        own = {function.name for path in FILES for function in functions_of(parse(path))}
+        for _, tree in self.each():
+            for node in ast.walk(tree):
+                if isinstance(node, ast.Name) and node.id in dir(builtins):
+                    self.assertIn(node.id, READ)
+                if isinstance(node, ast.Call) and isinstance(node.func, ast.Attribute):
+                    self.assertIn(node.func.attr, own | METHODS)
+
+    def test_strings(self):
+        for _, tree in self.each():
+            for node in ast.walk(tree):
+                if isinstance(node, ast.Constant) and isinstance(node.value, str):
+                    self.assertNotIn("%", node.value)
+
+
+if __name__ == "__main__":
+    unittest.main()
