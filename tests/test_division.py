@@ -40,9 +40,11 @@ class KindsTest(Samples):
         for call in DIVISIONS:
             check_error(self, InvalidOperation, call, [D3, EMPTY3], {})
             check_error(self, InvalidOperation, call, [EMPTY3, EMPTY3], {})
-            check_error(self, InvalidOperation, call, [D2, D3], {})
+            for one in (D2, Operator.times(X2), Operator(2, ())):
+                check_error(self, InvalidOperation, call, [one, D3], {})
             check_error(self, operator_kind(None).error, call, [D2, ()], {})
         check_error(self, InvalidOperation, value_at, [D3, X2], {})
+        check_error(self, InvalidOperation, value_at, [EMPTY3, X2], {})
         check_error(self, InvalidOperation, power_rest, [EMPTY3, 3], {})
         for bad in (True, 61, -1):
             caught = check_error(self, number_kind(1).error, power_rest, [EMPTY3, bad], {})

@@ -172,6 +172,7 @@ class FractionsTest(Samples):
         function = of_fractions(3, (), (((1, 1), ((),)), row, row, ((1, 0, 1), ((0, 1),)), row))
         self.assertEqual(function, Function(3, (0, 1), (1, 0, 1)))
         self.assertEqual(of_fractions(3, (), ()), NO)
+        self.assertEqual(of_fractions(3, (), (((0, 1), ((1,),)),) * 20), (ONE + ONE) // X3)
         self.assertEqual(of_fractions(3, (2, 1), ()), X3 + Function.number(3, 2))
 
     def test_refusals(self):
