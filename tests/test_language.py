@@ -21,6 +21,7 @@ METHODS = {
 }
 BARRED = (ast.GeneratorExp, ast.Lambda, ast.Set, ast.SetComp, ast.Try, ast.With, ast.Global, ast.Nonlocal, ast.Import,
           ast.AsyncFunctionDef, ast.Await, ast.NamedExpr, ast.YieldFrom, ast.Div)
+CHANGES = ("append", "clear", "extend", "insert", "pop", "remove", "reverse", "setdefault", "update")
 WORDS = {
     "type", "typing", "enum", "register", "mro", "elements", "open", "input", "law", "eval", "exec", "compile", "id",
     "vars", "globals", "locals", "getattr", "setattr", "hasattr", "format", "super",
@@ -53,6 +54,40 @@ def bound_names(tree):
 def imports_of(tree):
     return [(node.module, alias.name, alias.asname) for node in tree.body if isinstance(node, ast.ImportFrom)
             for alias in node.names]
+
+
+def changed_names(function):
+    """The names of lists and dicts whose items a function changes."""
+    found = set()
+    for node in ast.walk(function):
+        if isinstance(node, ast.Subscript) and not isinstance(node.ctx, ast.Load):
+            found.add(ast.unparse(node.value))
+        if isinstance(node, ast.Call) and isinstance(node.func, ast.Attribute) and node.func.attr in CHANGES:
+            found.add(ast.unparse(node.func.value))
+    return found
+
+
+def given_values(function, name):
+    """What a function assigns to a name; None stands for what a loop or a parameter gives it."""
+    found = [None for argument in function.args.args + function.args.kwonlyargs if argument.arg == name]
+    for node in ast.walk(function):
+        if isinstance(node, ast.Assign):
+            for target in node.targets:
+                if isinstance(target, ast.Name) and target.id == name:
+                    found.append(node.value)
+                if isinstance(target, ast.Tuple) and name in [ast.unparse(part) for part in target.elts]:
+                    found.append(None)
+        if isinstance(node, ast.For) and name in [ast.unparse(part) for part in ast.walk(node.target)
+                                                  if isinstance(part, ast.Name)]:
+            found.append(None)
+    return found
+
+
+def is_new(value):
+    """Whether a value is plainly a list or a dict that is created on the spot."""
+    if isinstance(value, ast.Call) and isinstance(value.func, ast.Name):
+        return value.func.id in ("list", "dict", "sorted")
+    return isinstance(value, (ast.List, ast.ListComp, ast.Dict, ast.DictComp))
 
 
 def local_names(function):
@@ -111,11 +146,23 @@ class LanguageTest(unittest.TestCase):
                     self.assertEqual(functions_of(node), [node])
                 if isinstance(node, ast.BinOp) and isinstance(node.op, ast.Pow):
                     self.assertIsInstance(node.right, ast.Constant)
+                if isinstance(node, ast.BinOp) and isinstance(node.op, ast.Mult):
+                    self.assertNotIsInstance(node.left, (ast.List, ast.ListComp))
+                    self.assertNotIsInstance(node.right, (ast.List, ast.ListComp))
                 if isinstance(node, ast.AugAssign):
                     self.assertIsInstance(node.target, ast.Name)
                     self.assertIsInstance(node.value, ast.Constant)
                 if isinstance(node, ast.Raise):
                     self.assertTrue(node.exc.func.id)
+
+    def test_changed_lists(self):
+        """Only lists and dicts are changed that a literal, a comprehension or list(..) created in the same function."""
+        for _, tree in self.each():
+            for function in functions_of(tree):
+                for name in changed_names(function):
+                    values = given_values(function, name)
+                    self.assertTrue(values, (function.name, name))
+                    self.assertTrue(all(is_new(value) for value in values), (function.name, name))
 
     def test_names(self):
         for _, tree in self.each():

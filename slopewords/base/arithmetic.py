@@ -74,7 +74,7 @@ def multiply(prime, one, other):
 
 def multiply_short(prime, one, other):
     """The product, number by number."""
-    out = [0] * (len(one) + len(other))
+    out = [0 for _ in range(len(one) + len(other))]
     for place, factor in enumerate(one):
         if factor:
             stop = place + len(other)
@@ -84,7 +84,7 @@ def multiply_short(prime, one, other):
 
 def multiply_long(prime, one, other):
     """The product by products of long integers, which are far quicker than Python's loops."""
-    out = [0] * (len(one) + len(other))
+    out = [0 for _ in range(len(one) + len(other))]
     blocks = [(start, packed(other[start:start + BLOCK])) for start in range(0, len(other), BLOCK)]
     for low in range(0, len(one), BLOCK):
         left = packed(one[low:low + BLOCK])
@@ -181,7 +181,7 @@ def slope_of(prime, poly):
 
 def spread_out(prime, poly):
     """A polynomial with x ** prime for x, which is also its power with the prime as exponent."""
-    numbers = [0] * (prime * len(poly))
+    numbers = [0 for _ in range(prime * len(poly))]
     for place, number in enumerate(poly):
         numbers[place * prime] = number
     return trimmed(numbers)
@@ -229,7 +229,7 @@ def kernel_of_numbers(prime, table):
     base = []
     for column in range(len(rows)):
         if column not in leads:
-            solution = [0] * len(rows)
+            solution = [0 for _ in rows]
             solution[column] = 1
             for row, lead in zip(rows, leads):
                 solution[lead] = -row[column] % prime

@@ -222,7 +222,7 @@ def join_parts(parts):
     """The function with these parts, as many as their prime."""
     prime = len(parts)
     tops, bottom = clear_bottoms(parts)
-    numbers = [0] * (prime * max([len(top) for top in tops]))
+    numbers = [0 for _ in range(prime * max([len(top) for top in tops]))]
     for place, top in enumerate(tops):
         for power, number in enumerate(top):
             numbers[power * prime + place] = number

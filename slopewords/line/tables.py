@@ -130,7 +130,7 @@ def table_kernel(table):
     kernel = []
     for column in range(width - 1, -1, -1):
         if column not in leads:
-            solution = [Function.number(prime, 0)] * width
+            solution = [Function.number(prime, 0) for _ in range(width)]
             solution[column] = Function.number(prime, 1)
             for row, lead in zip(rows, leads):
                 solution[lead] = -row[column]
@@ -157,7 +157,7 @@ def solved(table, column):
     rows, leads, last, _ = eliminate(prime, wider, width, whole=True)
     if any([row[width] for row in rows[len(leads):]]):
         return None
-    solution = [Function.number(prime, 0)] * width
+    solution = [Function.number(prime, 0) for _ in range(width)]
     for row, lead in zip(rows, leads):
         solution[lead] = function_of(prime, row[width], last)
     return tuple(solution)

@@ -59,7 +59,8 @@ def divide_left(one, other):
         quotient.append(factor)
         product = other * Operator.times(factor)
         shift = len(rest) - len(other)
-        rest = less_top(rest, [zero] * shift + [product.entry(index) for index in range(len(other))])
+        lower = [zero for _ in range(shift)]
+        rest = less_top(rest, lower + [product.entry(index) for index in range(len(other))])
     return made_operator(one.prime, quotient[::-1]), made_operator(one.prime, rest)
 
 
@@ -132,7 +133,7 @@ def power_rest(operator, many):
     if len(operator) == 1:
         return made_operator(prime, [])
     falls, bottom = clear_bottoms(operator.monic().entries[:-1])
-    tops = [(1,)] + [()] * (len(falls) - 1)
+    tops = [(1,)] + [() for _ in falls[1:]]
     for number in range(many):
         tops = next_tops(prime, tops, falls, bottom, number)
     lower = power_of(prime, bottom, many)
