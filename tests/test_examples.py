@@ -7,7 +7,8 @@ import unittest
 FOLDER = pathlib.Path(__file__).parent / "examples"
 MODULES = (
     "errors", "base.polys", "func.functions", "func.places", "func.slopes", "line.tables", "oper.operators",
-    "oper.division",
+    "oper.division", "oper.common", "oper.changes", "made.rows", "made.sides", "turn.turns", "turn.norms", "turn.roots",
+    "first.sources",
 )
 
 
@@ -54,7 +55,7 @@ class ExamplesTest(unittest.TestCase):
             self.assertEqual(vars(caught.exception), vars(eval(raised, names)))
 
     def test_counts(self):
-        for stage in range(1, 8):
+        for stage in range(1, 16):
             self.assertGreaterEqual(len(read_examples(f"stage_{stage:02}")), 5)
 
     def test_stage_1(self):
@@ -77,6 +78,30 @@ class ExamplesTest(unittest.TestCase):
 
     def test_stage_7(self):
         self.check_stage("stage_07")
+
+    def test_stage_8(self):
+        self.check_stage("stage_08")
+
+    def test_stage_9(self):
+        self.check_stage("stage_09")
+
+    def test_stage_10(self):
+        self.check_stage("stage_10")
+
+    def test_stage_11(self):
+        self.check_stage("stage_11")
+
+    def test_stage_12(self):
+        self.check_stage("stage_12")
+
+    def test_stage_13(self):
+        self.check_stage("stage_13")
+
+    def test_stage_14(self):
+        self.check_stage("stage_14")
+
+    def test_stage_15(self):
+        self.check_stage("stage_15")
 
 
 if __name__ == "__main__":

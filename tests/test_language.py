@@ -132,6 +132,12 @@ class LanguageTest(unittest.TestCase):
                         seen.add(module)
                         rest.append(module)
 
+    def test_no_function_has_the_name_of_another_one(self):
+        """So names of several files can be imported side by side."""
+        names = [node.name for _, tree in self.each() for node in tree.body
+                 if isinstance(node, (ast.FunctionDef, ast.ClassDef))]
+        self.assertEqual(len(names), len(set(names)))
+
     def test_all_imports_are_used(self):
         for path, tree in self.each():
             read = {node.id for node in ast.walk(tree) if isinstance(node, ast.Name)}
@@ -166,8 +172,9 @@ class LanguageTest(unittest.TestCase):
 
     def test_names(self):
         for _, tree in self.each():
-            outer = set(bound_names(tree)) | {name for _, name, _ in imports_of(tree)}
-            self.assertFalse(outer & set(dir(builtins)))
+            outer = {node.name for node in tree.body if isinstance(node, ast.ClassDef)}
+            outer |= {name for _, name, _ in imports_of(tree)}
+            self.assertFalse((outer | set(bound_names(tree))) & set(dir(builtins)))
             for function in functions_of(tree):
                 names = local_names(function)
                 self.assertFalse(names & (outer | set(dir(builtins))), function.name)

@@ -7,8 +7,12 @@ A polynomial is a tuple of integers from 0 to prime - 1, the lowest power first,
 # Up to this many numbers the product number by number is quicker than that of long integers.
 SHORT = 5
 # So many numbers of a polynomial go into one long integer, each with four hexadecimal digits:
-# a sum of 90 products of numbers to 6 fits in, and the integers stay below 900 decimal digits.
+# a sum of 90 products of numbers to 6 fits in, even 20 times, and the integers stay below 900 decimal digits.
 BLOCK = 90
+MOST_SUMMED = 20
+# With so many numbers in a quotient, so many of them are found at once, and multiplied by products of long integers.
+MANY_STEPS = 10
+STEPS = 64
 LANE = 4
 LANES = ("0000", "0001", "0002", "0003", "0004", "0005", "0006")
 
@@ -85,13 +89,24 @@ def multiply_short(prime, one, other):
 def multiply_long(prime, one, other):
     """The product by products of long integers, which are far quicker than Python's loops."""
     out = [0 for _ in range(len(one) + len(other))]
-    blocks = [(start, packed(other[start:start + BLOCK])) for start in range(0, len(other), BLOCK)]
-    for low in range(0, len(one), BLOCK):
-        left = packed(one[low:low + BLOCK])
-        for high, right in blocks:
-            for place, number in enumerate(unpacked(left * right), start=low + high):
-                out[place] = out[place] + number
+    lefts = [packed(one[start:start + BLOCK]) for start in range(0, len(one), BLOCK)]
+    rights = [packed(other[start:start + BLOCK]) for start in range(0, len(other), BLOCK)]
+    for place in range(len(lefts) + len(rights) - 1):
+        first, stop = max(0, place + 1 - len(rights)), min(place + 1, len(lefts))
+        for start in range(first, stop, MOST_SUMMED):
+            lanes = unpacked(block_sum(lefts, rights, place, start, min(start + MOST_SUMMED, stop)))
+            low = place * BLOCK
+            high = low + len(lanes)
+            out[low:high] = [number + further for number, further in zip(out[low:high], lanes)]
     return trimmed([number % prime for number in out])
+
+
+def block_sum(lefts, rights, place, start, stop):
+    """The sum of the products of blocks whose indices add up to a place."""
+    total = 0
+    for low in range(start, stop):
+        total = total + lefts[low] * rights[place - low]
+    return total
 
 
 def packed(numbers):
@@ -109,6 +124,29 @@ def unpacked(whole):
 
 def divide(prime, one, other):
     """The pair of the quotient and of the rest, for another polynomial that is not ()."""
+    if len(one) - len(other) < MANY_STEPS or len(other) <= STEPS:
+        return divide_short(prime, one, other)
+    rest = one
+    quotient = [0 for _ in range(len(one) - len(other) + 1)]
+    while len(rest) - len(other) >= MANY_STEPS:
+        low = max(0, len(rest) - len(other) + 1 - STEPS)
+        digits = first_digits(prime, rest, other, len(rest) - len(other) + 1 - low)
+        quotient[low:low + len(digits)] = digits
+        rest = add_scaled(prime, rest, (0,) * low + multiply(prime, digits, other), -1)
+    digits, rest = divide_short(prime, rest, other)
+    quotient[:len(digits)] = digits
+    return trimmed(quotient), rest
+
+
+def first_digits(prime, one, other, many):
+    """The first numbers of a quotient, so many of them: the first numbers of both polynomials tell them."""
+    low = max(0, len(other) - many)
+    short = other[low:]
+    return divide_short(prime, one[len(one) + 1 - len(short) - many:], short)[0]
+
+
+def divide_short(prime, one, other):
+    """The pair of the quotient and of the rest, number by number."""
     rest = list(one)
     quotient = []
     size = len(other)
@@ -299,3 +337,11 @@ def list_irreducible(prime, degree):
             for cofactor in cofactors:
                 products[multiply(prime, factor, cofactor)] = True
     return [poly for poly in monic_polys(prime, degree) if poly not in products]
+
+
+def binomial_row(prime, many):
+    """The binomials of a number over 0, 1 and so on to itself, modulo the prime."""
+    row = [1]
+    for _ in range(many):
+        row = [(number + further) % prime for number, further in zip([0, *row], [*row, 0])]
+    return row

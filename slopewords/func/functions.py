@@ -79,11 +79,12 @@ class Function:
 
     def parts(self):
         """The tuple of all parts, functions of t."""
-        return tuple([part_at(self, place) for place in range(self._prime)])
+        wide = wide_top(self)
+        return tuple([part_of_top(self, wide, place) for place in range(self._prime)])
 
     def last_part(self):
         """The last one of the parts."""
-        return part_at(self, self._prime - 1)
+        return part_of_top(self, wide_top(self), self._prime - 1)
 
     def spread(self):
         """The function with x ** prime for its letter."""
@@ -146,6 +147,20 @@ def made_function(prime, top, bottom):
     function._top = top
     function._bottom = bottom
     return function
+
+
+def power_quotient(prime, top, base, many):
+    """The quotient of a polynomial and of a power of a monic one, shortened by divisors of this one alone."""
+    extra = (1,)
+    for _ in range(many if top else 0):
+        common = common_divisor(prime, top, base)
+        if common == (1,):
+            break
+        top = quotient_of(prime, top, common)
+        extra = multiply(prime, extra, common)
+    if not top:
+        return made_function(prime, (), (1,))
+    return made_function(prime, top, quotient_of(prime, power_of(prime, base, many), extra))
 
 
 def function_of(prime, top, bottom):
@@ -211,11 +226,15 @@ def slope_once(function):
     return shortened(prime, upper, multiply(prime, bottom, left), common)
 
 
-def part_at(function, place):
-    """A part of a function, by its index."""
+def wide_top(function):
+    """The top of a function over the power of its bottom that is a function of t."""
     prime = function.prime
-    wide = multiply(prime, function.top, power_of(prime, function.bottom, prime - 1))
-    return function_of(prime, trimmed(wide[place::prime]), function.bottom)
+    return multiply(prime, function.top, power_of(prime, function.bottom, prime - 1))
+
+
+def part_of_top(function, wide, place):
+    """A part of a function, by its index, from its wide top."""
+    return function_of(function.prime, trimmed(wide[place::function.prime]), function.bottom)
 
 
 def join_parts(parts):

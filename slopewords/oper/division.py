@@ -1,8 +1,8 @@
 """Division of operators, on the right and on the left, with rests."""
 
-from slopewords.base.arithmetic import add_scaled, is_within, multiply, power_of, slope_of
+from slopewords.base.arithmetic import add_scaled, is_within, multiply, slope_of
 from slopewords.errors import InvalidNumber, InvalidOperation
-from slopewords.func.functions import Function, check_function, check_same_prime, clear_bottoms, function_of
+from slopewords.func.functions import Function, check_function, check_same_prime, clear_bottoms, power_quotient
 from slopewords.oper.operators import Operator, check_operator, made_operator, slope_entries
 
 MOST_VALUES = 20
@@ -132,12 +132,22 @@ def power_rest(operator, many):
     prime = operator.prime
     if len(operator) == 1:
         return made_operator(prime, [])
+    rows, bottom = power_tops(operator, many)
+    lower = max(0, many + 1 - operator.degree)
+    return made_operator(prime, [power_quotient(prime, top, bottom, lower) for top in rows[many]])
+
+
+def power_tops(operator, many):
+    """The tops of the right rests of D ** 0, .., D ** many by an operator of a degree from 1 on, and their bottom.
+
+    From the degree on, the rest of a power is over the bottom to the power by which its index exceeds degree - 1.
+    """
     falls, bottom = clear_bottoms(operator.monic().entries[:-1])
-    tops = [(1,)] + [() for _ in falls[1:]]
-    for number in range(many):
-        tops = next_tops(prime, tops, falls, bottom, number)
-    lower = power_of(prime, bottom, many)
-    return made_operator(prime, [function_of(prime, top, lower) for top in tops])
+    size = len(falls)
+    rows = [[(1,) if index == number else () for index in range(size)] for number in range(size)]
+    for number in range(many + 1 - size):
+        rows.append(next_tops(operator.prime, rows[-1], falls, bottom, number))
+    return rows, bottom
 
 
 def next_tops(prime, tops, falls, bottom, number):

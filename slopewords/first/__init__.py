@@ -1,0 +1,1 @@
+"""Functions with a told turn."""

@@ -1,0 +1,1 @@
+"""What operators make 0, and right sides."""

@@ -1,0 +1,1 @@
+"""Turns and norms of operators, and roots of norms."""
