@@ -8,6 +8,7 @@ from slopewords.func.slopes import turn_of
 from slopewords.line.tables import own_poly
 from slopewords.made.rows import row_determinant
 from slopewords.oper.changes import inverted, moved, stretched, tilted, turned_over
+from slopewords.oper.common import left_multiple, right_common
 from slopewords.oper.operators import Operator, commutator, is_central
 from slopewords.turn.norms import MOST_NORM, is_norm, norm, norm_at, norm_by_rows, norm_cofactor, norm_operator
 from slopewords.turn.norms import norm_product
@@ -230,6 +231,19 @@ class ChangesTest(Samples):
                 self.assertEqual(norm(stretched(operator, number)), due)
             due = put(tuple(inverted(entry) for entry in told), (zero(prime), -letter * letter))
             self.assertEqual(norm(inverted(operator)), due)
+
+    def test_13_5_alike(self):
+        """Behind a least common multiple A L = B U, with 1 as the right common one of both, B is alike to L."""
+        for prime in PRIMES:
+            seen = 0
+            for _ in range(6):
+                one = Operator(prime, (self.source.function(prime, 1, 1), one_of(prime)))
+                other = Operator(prime, (self.source.nonzero(prime, 1, 0), one_of(prime)))
+                if right_common(one, other).degree == 0:
+                    alike = left_multiple(one, other)[2].monic()
+                    seen += alike != one
+                    self.assertEqual(norm(alike), norm(one))
+            self.assertTrue(seen)
 
     def test_13_6_factors(self):
         """If the norm cannot come apart, the operator cannot; the norm of a product comes apart."""

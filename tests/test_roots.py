@@ -132,6 +132,12 @@ class KindsTest(Samples):
             self.assertGreater(max(len(entry.bottom) for entry in norm(long_one)), 25)
             self.check_long_operator(long_one, 24)
             self.assertEqual(parts(Operator(prime, (high,))), ())
+            # A long function can have a short norm, and is refused all the same.
+            log = Operator.factor((letter + one) ** 12 * letter // (high * letter + one))
+            short = Operator.factor((high * letter + one).slope() // (high * letter + one))
+            for operator in (log, short):
+                if max(len(entry.bottom) for entry in operator) > 25:
+                    self.check_long_operator(operator, 24)
             check_error(self, function_kind(None).error, root_part, [Operator.slopes(prime, 5), None], {})
 
     def test_judged_values(self):

@@ -10,6 +10,7 @@ from slopewords.line.tables import determinant, idle_table, own_poly, power_rank
 from slopewords.line.tables import table_rank, table_slope
 from slopewords.made.rows import made_number, vanisher
 from slopewords.oper.changes import tilted, turned_over
+from slopewords.oper.common import left_multiple, right_common
 from slopewords.oper.division import is_right_factor, power_rest, right_division
 from slopewords.oper.operators import Operator
 from slopewords.turn.turns import MAX_DEGREE, MAX_TOP, ROADS, flat_paper, is_flat, step_table, turn, turn_ranks
@@ -267,6 +268,18 @@ class RanksTest(Samples):
                 moved = table_plus(turn(operator), scaled(idle_table(prime, operator.degree), -due))
                 self.assertEqual(power_ranks(turn(tilted(operator, function))), power_ranks(moved))
                 self.assertEqual(turn_ranks(turned_over(operator)), turn_ranks(operator))
+
+
+    def test_12_5_alike(self):
+        """Behind a least common multiple A L = B U, with 1 as the right common one of both, B is alike to L."""
+        for prime in PRIMES:
+            for _ in range(4):
+                one = self.line(prime) * self.line(prime)
+                other = Operator.factor(self.source.function(prime, 1, 0))
+                if right_common(one, other).degree == 0:
+                    alike = left_multiple(one, other)[2]
+                    if max(max(len(entry.top), len(entry.bottom)) for entry in alike) < 25:
+                        self.assertEqual(turn_ranks(alike), turn_ranks(one))
 
 
 class SayingsTest(unittest.TestCase):

@@ -154,4 +154,4 @@ def source_at_place(prime, place, poly):
     table = [[column[row] if row < len(column) else 0 for column in columns] for row in range(degree)]
     solution = [numbers for numbers in kernel_of_numbers(prime, table) if numbers[-1]][0]
     unit = inverse(prime, solution[-1])
-    return trimmed([0, *[unit * number % prime for number in solution[:-1]]])
+    return trimmed([0] + [unit * number % prime for number in solution[:-1]])

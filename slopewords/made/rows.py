@@ -66,7 +66,7 @@ def operator_of_rows(table):
 def entry_from(prime, made, index):
     """The entry at an index, times the product of the numbers from 1 to it, from what is made of the powers of x.
 
-    It is what is made of (x - a) ** index, a number a that is put for x only behind that being the letter itself.
+    It is what the operator makes of (x - a) ** index, with x put for the number a only behind that.
     """
     row = binomial_row(prime, index)
     total = Function.number(prime, 0)

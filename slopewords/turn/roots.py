@@ -34,7 +34,7 @@ def roots_of(norm):
     polys, _ = clear_bottoms(norm)
     found = [function_of(prime, root, polys[-1]) for root in whole_roots(prime, whole_norm(prime, polys))]
     rows = sorted([(root.bottom, root.top, place) for place, root in enumerate(found)])
-    return tuple([(found[place], number_of(norm, found[place])) for _, _, place in rows])
+    return tuple([(found[row[2]], number_of(norm, found[row[2]])) for row in rows])
 
 
 def whole_norm(prime, polys):
