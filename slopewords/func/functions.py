@@ -163,6 +163,11 @@ def power_quotient(prime, top, base, many):
     return made_function(prime, top, quotient_of(prime, power_of(prime, base, many), extra))
 
 
+def slope_top(prime, top, bottom, slope, many):
+    """The top over the next power of the slope of top / bottom ** many, told the slope of the bottom."""
+    return add_scaled(prime, multiply(prime, slope_of(prime, top), bottom), multiply(prime, top, slope), -many)
+
+
 def function_of(prime, top, bottom):
     """The quotient of two polynomials of any degrees, the lower one not ()."""
     lowest = lowest_terms(prime, top, bottom)

@@ -1,8 +1,10 @@
 """Operators turned over and tilted, and changes of letters."""
 
-from slopewords.base.arithmetic import add_scaled, binomial_row, inverse, is_within, scale, trimmed
+from slopewords.base.arithmetic import add_scaled, binomial_row, inverse, is_within, multiply, power_of, scale
+from slopewords.base.arithmetic import slope_of, trimmed
 from slopewords.errors import InvalidNumber, InvalidOperation
-from slopewords.func.functions import Function, check_function, check_same_prime, made_function
+from slopewords.func.functions import Function, check_function, check_same_prime, clear_bottoms, made_function
+from slopewords.func.functions import power_quotient, slope_top
 from slopewords.oper.division import row_of_values
 from slopewords.oper.operators import Operator, add_entries, check_operator, made_operator, slope_entries
 
@@ -14,11 +16,52 @@ def turned_over(operator):
 
 
 def turn_over(operator):
-    """The operator turned over: from the last function on, all that comes behind is multiplied by -D."""
-    entries = []
-    for entry in operator.entries[::-1]:
-        entries = add_entries([entry], [-further for further in slope_entries(entries)])
-    return made_operator(operator.prime, entries)
+    """The operator turned over.
+
+    It has a bottom B for which B times it has polynomials for functions. Turned over, it is this one turned over, with
+    1 / B behind it; so functions are brought to lowest terms once, and divided by divisors of B alone.
+    """
+    if not operator:
+        return operator
+    prime = operator.prime
+    tops, bottom = clear_bottoms(operator.entries)
+    size = min(len(tops), prime)
+    found = tops_behind(prime, turn_tops(prime, tops), undone_slopes(prime, bottom, size))
+    return made_operator(prime, [power_quotient(prime, top, bottom, size) for top in found])
+
+
+def turn_tops(prime, tops):
+    """The operator with these polynomials, turned over: all that comes behind one of them is multiplied by -D."""
+    found = []
+    for top in tops[::-1]:
+        slopes = [slope_of(prime, further) for further in found]
+        moved = [add_scaled(prime, further, slope, 1) for further, slope in zip([(), *found], [*slopes, ()])]
+        found = [scale(prime, further, prime - 1) for further in moved]
+        found[0] = add_scaled(prime, found[0], top, 1)
+    return found
+
+
+def undone_slopes(prime, bottom, many):
+    """So many slopes of 1 / bottom, itself first: their tops over bottom ** many."""
+    slope = slope_of(prime, bottom)
+    tops = [(1,)]
+    for number in range(1, many):
+        tops.append(slope_top(prime, tops[-1], bottom, slope, number))
+    return [multiply(prime, top, power_of(prime, bottom, many - 1 - number)) for number, top in enumerate(tops)]
+
+
+def tops_behind(prime, tops, slopes):
+    """The operator with these tops times a function behind it, for the tops of the slopes of the function.
+
+    Slopes from a number on can be left out if they are 0.
+    """
+    found = [() for _ in tops]
+    for number, top in enumerate(tops):
+        for index, factor in enumerate(binomial_row(prime, number)[:len(slopes)]):
+            if factor:
+                place = number - index
+                found[place] = add_scaled(prime, found[place], multiply(prime, top, slopes[index]), factor)
+    return found
 
 
 def check_changed(value):

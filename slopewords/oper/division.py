@@ -3,6 +3,7 @@
 from slopewords.base.arithmetic import add_scaled, is_within, multiply, slope_of
 from slopewords.errors import InvalidNumber, InvalidOperation
 from slopewords.func.functions import Function, check_function, check_same_prime, clear_bottoms, power_quotient
+from slopewords.func.functions import slope_top
 from slopewords.oper.operators import Operator, check_operator, made_operator, slope_entries
 
 MOST_VALUES = 20
@@ -159,8 +160,7 @@ def next_tops(prime, tops, falls, bottom, number):
     slope = slope_of(prime, bottom)
     found = []
     for place, fall in enumerate(falls):
-        rising = multiply(prime, slope_of(prime, tops[place]), bottom)
-        top = add_scaled(prime, rising, multiply(prime, tops[place], slope), -number)
+        top = slope_top(prime, tops[place], bottom, slope, number)
         if place:
             top = add_scaled(prime, top, multiply(prime, tops[place - 1], bottom), 1)
         found.append(add_scaled(prime, top, multiply(prime, tops[-1], fall), -1))

@@ -5,8 +5,9 @@ a list of polynomials, the one at the lowest power of y first.
 """
 
 from slopewords.base.arithmetic import add_scaled, binomial_row, multiply, power_of, quotient_of, slope_of
-from slopewords.func.functions import power_quotient
+from slopewords.func.functions import power_quotient, slope_top
 from slopewords.line.elimination import sum_of_products
+from slopewords.oper.changes import tops_behind
 from slopewords.oper.division import power_tops
 
 
@@ -85,11 +86,6 @@ def slope_tops(prime, tops, bottom, many):
     """The tops of the slope of a table over bottom ** many, over the next power."""
     slope = slope_of(prime, bottom)
     return [[slope_top(prime, top, bottom, slope, many) for top in row] for row in tops]
-
-
-def slope_top(prime, top, bottom, slope, many):
-    """The top of the slope of top / bottom ** many, over the next power."""
-    return add_scaled(prime, multiply(prime, slope_of(prime, top), bottom), multiply(prime, top, slope), -many)
 
 
 def lifted_rows(prime, tops):
@@ -181,10 +177,4 @@ def behind_poly(prime, tops, poly):
     slopes = [poly]
     for _ in range(prime - 1):
         slopes.append(slope_of(prime, slopes[-1]))
-    found = [() for _ in tops]
-    for number, top in enumerate(tops):
-        for index, factor in enumerate(binomial_row(prime, number)[:prime]):
-            if factor and slopes[index]:
-                place = number - index
-                found[place] = add_scaled(prime, found[place], multiply(prime, top, slopes[index]), factor)
-    return found
+    return tops_behind(prime, tops, slopes)
