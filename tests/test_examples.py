@@ -8,7 +8,8 @@ FOLDER = pathlib.Path(__file__).parent / "examples"
 MODULES = (
     "errors", "base.polys", "func.functions", "func.places", "func.slopes", "line.tables", "oper.operators",
     "oper.division", "oper.common", "oper.changes", "made.rows", "made.sides", "turn.turns", "turn.norms", "turn.roots",
-    "first.sources",
+    "first.sources", "first.factors", "first.chains", "kin.leading", "kin.rings", "kin.systems", "line.fractions",
+    "desk.desks", "text.texts",
 )
 
 
@@ -55,8 +56,8 @@ class ExamplesTest(unittest.TestCase):
             self.assertEqual(vars(caught.exception), vars(eval(raised, names)))
 
     def test_counts(self):
-        for stage in range(1, 16):
-            self.assertGreaterEqual(len(read_examples(f"stage_{stage:02}")), 5)
+        for stage in range(1, 23):
+            self.assertGreaterEqual(len(read_examples(f"stage_{stage:02}")), 4)
 
     def test_stage_1(self):
         self.check_stage("stage_01")
@@ -102,6 +103,27 @@ class ExamplesTest(unittest.TestCase):
 
     def test_stage_15(self):
         self.check_stage("stage_15")
+
+    def test_stage_16(self):
+        self.check_stage("stage_16")
+
+    def test_stage_17(self):
+        self.check_stage("stage_17")
+
+    def test_stage_18(self):
+        self.check_stage("stage_18")
+
+    def test_stage_19(self):
+        self.check_stage("stage_19")
+
+    def test_stage_20(self):
+        self.check_stage("stage_20")
+
+    def test_stage_21(self):
+        self.check_stage("stage_21")
+
+    def test_stage_22(self):
+        self.check_stage("stage_22")
 
 
 if __name__ == "__main__":

@@ -19,7 +19,8 @@ METHODS = {
     "append", "clear", "copy", "count", "endswith", "extend", "find", "get", "index", "insert", "items", "join", "keys",
     "pop", "remove", "replace", "reverse", "split", "startswith", "strip", "values", "zfill", "bit_length",
 }
-BARRED = (ast.GeneratorExp, ast.Lambda, ast.Set, ast.SetComp, ast.Try, ast.With, ast.Global, ast.Nonlocal, ast.Import,
+LIBRARY = {"math": {"gcd", "lcm"}}
+BARRED = (ast.GeneratorExp, ast.Lambda, ast.Set, ast.SetComp, ast.With, ast.Global, ast.Nonlocal, ast.Import,
           ast.AsyncFunctionDef, ast.Await, ast.NamedExpr, ast.YieldFrom, ast.Div)
 CHANGES = ("append", "clear", "extend", "insert", "pop", "remove", "reverse", "setdefault", "update")
 WORDS = {
@@ -121,14 +122,14 @@ class LanguageTest(unittest.TestCase):
             own = bound_names(tree) + [name for _, name, _ in imports_of(tree)]
             self.assertEqual(len(own), len(set(own)))
             for module, name, other in imports_of(tree):
-                self.assertIn(name, named[module][0])
+                self.assertIn(name, LIBRARY[module] if module in LIBRARY else named[module][0])
                 self.assertIsNone(other)
         for start in named:
             seen, rest = set(), [start]
             while rest:
                 for module, _, _ in named[rest.pop()][1]:
                     self.assertNotEqual(module, start)
-                    if module not in seen:
+                    if module not in seen and module not in LIBRARY:
                         seen.add(module)
                         rest.append(module)
 
@@ -156,10 +157,56 @@ class LanguageTest(unittest.TestCase):
                     self.assertNotIsInstance(node.left, (ast.List, ast.ListComp))
                     self.assertNotIsInstance(node.right, (ast.List, ast.ListComp))
                 if isinstance(node, ast.AugAssign):
-                    self.assertIsInstance(node.target, ast.Name)
+                    self.assertIn(ast.unparse(node.target).partition(".")[0], (ast.unparse(node.target), "self"))
+                    self.assertIsInstance(node.target, (ast.Name, ast.Attribute))
                     self.assertIsInstance(node.value, ast.Constant)
                 if isinstance(node, ast.Raise):
                     self.assertTrue(node.exc.func.id)
+
+    def test_tries(self):
+        """Only own errors are caught, and what stands in a finally is one assignment of names to attributes."""
+        own = set(bound_names(parse(PACKAGE / "errors.py")))
+        for _, tree in self.each():
+            for node in ast.walk(tree):
+                if isinstance(node, ast.Try):
+                    for handler in node.handlers:
+                        caught = handler.type.elts if isinstance(handler.type, ast.Tuple) else [handler.type]
+                        self.assertLessEqual({name.id for name in caught}, own)
+                        self.assertIsNone(handler.name)
+                    for statement in node.finalbody:
+                        self.assertIsInstance(statement, ast.Assign)
+                        for part in ast.walk(statement):
+                            self.assertIsInstance(part, (ast.Assign, ast.Tuple, ast.Name, ast.Attribute, ast.Load,
+                                                         ast.Store))
+
+    def test_library_names_are_only_called(self):
+        for _, tree in self.each():
+            names = {name for module, name, _ in imports_of(tree) if module in LIBRARY}
+            called = [node.func for node in ast.walk(tree) if isinstance(node, ast.Call)]
+            for node in ast.walk(tree):
+                if isinstance(node, ast.Name) and node.id in names:
+                    self.assertIn(node, called)
+
+    def test_generators_are_iterated_at_once(self):
+        generators = {function.name for _, tree in self.each() for function in functions_of(tree)
+                      if any(isinstance(node, ast.Yield) for node in ast.walk(function))}
+        self.assertEqual(generators, {"irreducibles", "each_made", "each_shrunk", "signs", "sums_of"})
+        for _, tree in self.each():
+            heads = [node.iter for node in ast.walk(tree) if isinstance(node, ast.For)]
+            for node in ast.walk(tree):
+                if isinstance(node, ast.Call) and isinstance(node.func, ast.Name) and node.func.id in generators:
+                    self.assertIn(node, heads)
+                    self.assertTrue(all(isinstance(argument, ast.Name) for argument in node.args))
+
+    def test_what_is_iterated_over_is_not_changed(self):
+        for _, tree in self.each():
+            for loop in [node for node in ast.walk(tree) if isinstance(node, ast.For)]:
+                changed = set().union(*[changed_names(statement) for statement in loop.body])
+                over = [loop.iter]
+                if isinstance(loop.iter, ast.Call):
+                    over = [loop.iter.func.value] if isinstance(loop.iter.func, ast.Attribute) else loop.iter.args
+                for part in over:
+                    self.assertNotIn(ast.unparse(part), changed)
 
     def test_changed_lists(self):
         """Only lists and dicts are changed that a literal, a comprehension or list(..) created in the same function."""

@@ -3,7 +3,7 @@
 All steps stay among polynomials: each entry is a determinant of entries that were passed, so that degrees stay low.
 """
 
-from slopewords.base.arithmetic import add_scaled, multiply, quotient_of, scale
+from slopewords.base.arithmetic import add_scaled, common_divisor, multiply, quotient_of, scale
 
 
 def cleared(prime, row, lead_row, column, last):
@@ -51,6 +51,29 @@ def eliminate(prime, table, columns, *, whole):
         last = rows[rank][column]
         leads.append(column)
     return rows, leads, last, sign
+
+
+def kernel_columns(prime, table):
+    """A base of all columns of polynomials of which a table of polynomials makes 0, as short as can be told at once."""
+    width = len(table[0])
+    rows, leads, last, _ = eliminate(prime, table, width, whole=True)
+    base = []
+    for column in range(width):
+        if column not in leads:
+            solution = [() for _ in range(width)]
+            solution[column] = last
+            for row, lead in zip(rows, leads):
+                solution[lead] = scale(prime, row[column], prime - 1)
+            base.append(without_content(prime, solution))
+    return base
+
+
+def without_content(prime, polys):
+    """Polynomials divided by their greatest common divisor."""
+    content = ()
+    for poly in polys:
+        content = common_divisor(prime, content, poly)
+    return [quotient_of(prime, poly, content) for poly in polys] if content else list(polys)
 
 
 def count_rank(prime, table):

@@ -175,14 +175,32 @@ def slope_entries(entries):
 
 
 def multiply_operator(one, other):
-    """The product of two operators: the sum of the entries of one, each times a power of D times the other."""
+    """The product of two operators: the sum of the entries of one, each times a power of D times the other.
+
+    Entries that are 0 are left out, as products of many factors have many of them.
+    """
     check_same_prime((one, other))
-    total = []
-    lifted = list(other.entries)
+    prime = one.prime
+    total = {}
+    lifted = {index: entry for index, entry in enumerate(other.entries) if entry}
     for entry in one.entries:
-        total = add_entries(total, [entry * further for further in lifted])
-        lifted = slope_entries(lifted)
-    return made_operator(one.prime, total)
+        if entry:
+            for index in lifted:
+                product = entry * lifted[index]
+                total[index] = total[index] + product if index in total else product
+        lifted = lifted_once(lifted)
+    zero = Function.number(prime, 0)
+    return made_operator(prime, [total.get(index, zero) for index in range(len(one) + len(other))])
+
+
+def lifted_once(entries):
+    """The entries of D times an operator, by their indices, for entries that are not 0."""
+    found = {index + 1: entry for index, entry in entries.items()}
+    for index, entry in entries.items():
+        slope = entry.slope()
+        if slope:
+            found[index] = found[index] + slope if index in found else slope
+    return {index: entry for index, entry in found.items() if entry}
 
 
 def made_of(entries, function):

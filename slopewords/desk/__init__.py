@@ -1,0 +1,1 @@
+"""A desk that keeps operators under names."""

@@ -1,0 +1,1 @@
+"""Operators that lead to others, rings of operators, and systems."""

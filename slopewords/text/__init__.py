@@ -1,0 +1,1 @@
+"""Texts of polynomials, functions and operators."""
