@@ -6,7 +6,10 @@ import random
 from slopewords.errors import InvalidFunction, InvalidNumber, InvalidOperator, InvalidPlace, InvalidPoly
 from slopewords.errors import InvalidTable, SlopeError
 from slopewords.func.functions import Function
+from slopewords.oper.common import left_multiple, right_common
 from slopewords.oper.operators import Operator
+from slopewords.turn.norms import norm
+from slopewords.turn.roots import roots
 
 PRIMES = (2, 3, 5, 7)
 X3, X2 = Function.letter(3), Function.letter(2)
@@ -242,3 +245,72 @@ class Source:
             return Operator(prime, ())
         entries = tuple(self.sparse(prime) for _ in range(degree))
         return Operator(prime, entries + (self.nonzero(prime, 2, 1),))
+
+
+def turning_kind(good):
+    """An operator of a degree from 1 on."""
+    return Kind(good, InvalidOperator, wrong_operators())
+
+
+def drawn_firsts(source, prime, many, alike=False):
+    """Functions f for factors D - f; alike ones differ by slopes of logarithms."""
+    found = [source.function(prime, 2, 1) for _ in range(many)]
+    if alike:
+        for place in range(many):
+            by = source.nonzero(prime, 2, 1)
+            found[place] = found[0] + by.slope() // by
+    return found
+
+
+def product_of(source, prime, functions):
+    """A function times the product of all D - f."""
+    operator = Operator.times(source.nonzero(prime, 1, 1))
+    for function in functions:
+        operator = operator * Operator.factor(function)
+    return operator
+
+
+def slow_product_of(operators):
+    """The product of operators, from the left to the right."""
+    product = operators[0]
+    for operator in operators[1:]:
+        product = product * operator
+    return product
+
+
+def longest(operators):
+    """The greatest degree of a polynomial in operators."""
+    return max(max(len(entry.top), len(entry.bottom)) - 1 for operator in operators for entry in operator)
+
+
+def alike_to(source, operator):
+    """A drawn operator that is alike to one, with functions of degrees that can be passed again."""
+    while True:
+        by = source.operator(operator.prime, operator.degree - 1)
+        if right_common(operator, by).degree == 0:
+            found = left_multiple(operator, by)[2]
+            if longest([found]) <= 24:
+                return found
+
+
+def barred(prime):
+    """An irreducible operator of the degree of the prime whose norm has one root, 1 / t."""
+    return Operator.slopes(prime, prime) - Operator.times(Function.number(prime, 1) // Function.letter(prime) ** prime)
+
+
+def rootless_operator(source, prime, degree):
+    """A drawn monic operator whose norm has no roots."""
+    while True:
+        operator = source.operator(prime, degree).monic()
+        if not roots(norm(operator)):
+            return operator
+
+
+def parts_row(functions):
+    """The parts of functions, one function behind the other."""
+    return tuple(part for function in functions for part in function.parts())
+
+
+def joined(prime, row):
+    """The functions that have these parts."""
+    return tuple(Function.of_parts(tuple(row[start:start + prime])) for start in range(0, len(row), prime))
