@@ -3,7 +3,7 @@
 import unittest
 
 from slopewords.desk.desks import MAX_CLAIMS, MAX_DEGREE, MAX_KEPT, MAX_TOP, Desk
-from slopewords.errors import InvalidFunction, InvalidName, InvalidNumber, InvalidOperation, InvalidOperator
+from slopewords.errors import InvalidFunction, InvalidName, InvalidOperation, InvalidOperator
 from slopewords.errors import NothingToUndo, Refused, TooMany, UnknownName
 from slopewords.func.functions import Function
 from slopewords.oper.changes import tilted, turned_over

@@ -18,7 +18,7 @@ from slopewords.turn.norms import norm, norm_at
 from slopewords.turn.roots import roots
 from slopewords.turn.turns import turn
 from tests.support import BAR, D2, D3, EMPTY3, KINDS, LOGS, NO, ONE, PRIMES, X2, X3, Kind, Source, check_error
-from tests.support import check_refusals, drawn_firsts, function_kind, operator_kind, product_of, turning_kind, value_kind
+from tests.support import check_refusals, drawn_firsts, function_kind, product_of, turning_kind, value_kind
 
 ONE2 = Function.number(2, 1)
 

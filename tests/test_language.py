@@ -179,6 +179,14 @@ class LanguageTest(unittest.TestCase):
                             self.assertIsInstance(part, (ast.Assign, ast.Tuple, ast.Name, ast.Attribute, ast.Load,
                                                          ast.Store))
 
+    def test_stars_in_calls(self):
+        """Behind a star in a call stands a name."""
+        for _, tree in self.each():
+            for node in ast.walk(tree):
+                if isinstance(node, ast.Call):
+                    self.assertTrue(all(isinstance(part.value, ast.Name) for part in node.args
+                                        if isinstance(part, ast.Starred)), ast.unparse(node))
+
     def test_library_names_are_only_called(self):
         for _, tree in self.each():
             names = {name for module, name, _ in imports_of(tree) if module in LIBRARY}

@@ -3,17 +3,16 @@
 import unittest
 
 from slopewords.errors import InvalidOperation, InvalidOperator, TooMany
-from slopewords.first.sources import has_source
 from slopewords.func.functions import Function
 from slopewords.kin.leading import MAX_LED, MAX_TOP, alike_paper, are_alike, does_lead, is_alike_paper, leading_base
 from slopewords.kin.leading import leading_number, leading_table, led_behind, pieces
 from slopewords.line.tables import idle_table, table_kernel, table_plus, table_product, table_rank, undone_table
-from slopewords.made.rows import made_base, span_base
+from slopewords.made.rows import made_base
 from slopewords.oper.changes import tilted, turned_over
 from slopewords.oper.common import right_common
 from slopewords.oper.division import right_division
 from slopewords.oper.operators import Operator
-from slopewords.turn.norms import norm, norm_at
+from slopewords.turn.norms import norm
 from slopewords.turn.roots import parts, rootless, roots
 from slopewords.turn.turns import turn
 from tests.support import BAR, D2, D3, EMPTY3, KINDS, LOGS, NO, ONE, PRIMES, X2, X3, Source, alike_to, barred

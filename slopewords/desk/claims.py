@@ -10,7 +10,6 @@ from slopewords.turn.turns import is_flat
 
 LONGEST_NAME = 8
 LETTERS = "abcdefghijklmnopqrstuvwxyz"
-LOWEST_DEGREE = -1
 MOST_DEGREE = 6
 # How many names stand behind the word of a claim, and how many further values behind them.
 NAMED = {"degree": 1, "makes": 1, "product": 3, "factor": 2, "flat": 1, "norms": 2, "leads": 3}
@@ -32,7 +31,7 @@ def is_claim(prime, value):
     if len(value) != many + FURTHER.get(value[0], 0) or not all([is_name(name) for name in value[1:many]]):
         return False
     if value[0] == "degree":
-        return is_within(value[2], LOWEST_DEGREE, MOST_DEGREE)
+        return is_within(value[2], -1, MOST_DEGREE)
     return all([isinstance(further, Function) and further.prime == prime for further in value[many:]])
 
 

@@ -3,7 +3,7 @@
 from slopewords.base.arithmetic import is_integer
 from slopewords.errors import InvalidOperation, UnknownName
 from slopewords.first.sources import bars_of, source_of
-from slopewords.func.functions import Function, check_function, check_same_prime
+from slopewords.func.functions import Function, check_function, check_same_prime, join_parts, short_functions
 from slopewords.func.places import is_end
 from slopewords.func.slopes import turn_of
 from slopewords.line.elimination import count_rank
@@ -70,10 +70,12 @@ def shortest_first(operator, root):
 def list_firsts(operator, root):
     """Functions f with this turn for which D - f is a right factor, as many as the width tells.
 
-    The least common left multiple of all D - f has this number as its degree.
+    The least common left multiple of all D - f has this number as its degree. They are made of short functions u.
     """
     source = source_of(root)
-    return [source + made.slope() // made for made in made_base(tilt(operator, source))]
+    rows = short_functions(operator.prime, [made.parts() for made in made_base(tilt(operator, source))])
+    short = [join_parts(row) for row in rows]
+    return [source + made.slope() // made for made in short]
 
 
 def function_size(function):

@@ -4,7 +4,7 @@ from slopewords.base.arithmetic import add_scaled, common_divisor, inverse, is_i
 from slopewords.base.arithmetic import power_of, quotient_of, scale, slope_of, spread_out, trimmed
 from slopewords.base.polys import check_poly, check_prime
 from slopewords.errors import InvalidFunction, InvalidNumber, InvalidOperation
-from slopewords.line.elimination import count_rank
+from slopewords.line.elimination import count_rank, short_rows
 
 MAX_SLOPES = 20
 MAX_RAISED = 20
@@ -172,6 +172,14 @@ def function_of(prime, top, bottom):
     """The quotient of two polynomials of any degrees, the lower one not ()."""
     lowest = lowest_terms(prime, top, bottom)
     return made_function(prime, lowest[0], lowest[1])
+
+
+def short_functions(prime, echelon):
+    """Short rows of polynomials, as functions, for the rows of an echelon."""
+    width = len(echelon[0])
+    tops, bottom = clear_bottoms([entry for row in echelon for entry in row])
+    rows = short_rows(prime, [tops[start:start + width] for start in range(0, len(tops), width)], bottom)
+    return [[made_function(prime, top, (1,)) for top in row] for row in rows]
 
 
 def lowest_terms(prime, top, bottom):

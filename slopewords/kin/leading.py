@@ -2,8 +2,7 @@
 
 from slopewords.base.arithmetic import add_scaled, common_divisor, is_integer, multiply, power_of, quotient_of
 from slopewords.errors import InvalidOperation, TooMany
-from slopewords.first.chains import operator_size
-from slopewords.func.functions import Function, check_same_prime, join_parts
+from slopewords.func.functions import Function, check_same_prime, join_parts, short_functions
 from slopewords.kin.flats import flat_echelon
 from slopewords.line.elimination import kernel_columns
 from slopewords.oper.common import division_rows, last_rest, made_monic
@@ -39,13 +38,16 @@ def leading_base(one, other):
 
 
 def base_between(one, other):
-    """The echelon base: those of all tables between the turns whose entries fulfil a system."""
-    prime, size = one.prime, one.degree
+    """The echelon base."""
     if not number_between(one, other):
         return ()
-    columns = kernel_columns(prime, turn_system(one, other))
-    rows = flat_echelon(prime, slope_system(one, other), columns, size)
-    return tuple([operator_of_parts(prime, row) for row in rows])
+    return tuple([operator_of_parts(one.prime, row) for row in rows_between(one, other)])
+
+
+def rows_between(one, other):
+    """The rows of the echelon base: those of all tables between the turns whose entries fulfil a system."""
+    columns = kernel_columns(one.prime, turn_system(one, other))
+    return flat_echelon(one.prime, slope_system(one, other), columns, one.degree)
 
 
 def operator_of_parts(prime, row):
@@ -218,9 +220,10 @@ def alike_paper(one, other):
 
 def undoable(one, other):
     """An operator that leads one operator to the other one, and can be undone."""
-    base = base_between(one, other)
-    sizes = sorted([(operator_size(operator), index) for index, operator in enumerate(base)])
-    shortest_first = [base[index] for _, index in sizes]
+    prime = one.prime
+    rows = short_functions(prime, rows_between(one, other))
+    sizes = sorted([(max([len(entry.top) for entry in row]), place) for place, row in enumerate(rows)])
+    shortest_first = [operator_of_parts(prime, rows[place]) for _, place in sizes]
     for operator in sums_of(shortest_first):
         if is_undoable(one, operator):
             return operator

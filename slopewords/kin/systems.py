@@ -169,7 +169,8 @@ def row_steps(table, row):
 
 def operator_of_row(rows):
     """The monic operator whose functions, times the rows of a telling row, add up to 0."""
-    table = tuple([column for column in zip(*rows[:-1])])
+    upper = rows[:-1]
+    table = tuple([column for column in zip(*upper)])
     entries = solved(table, tuple([-entry for entry in rows[-1]]))
     prime = rows[0][0].prime
     return made_operator(prime, [*entries, Function.number(prime, 1)])

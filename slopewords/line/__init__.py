@@ -1,1 +1,1 @@
-"""Tables of functions."""
+"""Tables of functions, and lines over the fractions."""

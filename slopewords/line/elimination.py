@@ -3,7 +3,7 @@
 All steps stay among polynomials: each entry is a determinant of entries that were passed, so that degrees stay low.
 """
 
-from slopewords.base.arithmetic import add_scaled, common_divisor, multiply, quotient_of, scale
+from slopewords.base.arithmetic import add_scaled, common_divisor, divide, multiply, quotient_of, rest_of, scale
 
 
 def cleared(prime, row, lead_row, column, last):
@@ -104,3 +104,73 @@ def sum_of_products(prime, ones, others):
         if one and other:
             total = add_scaled(prime, total, multiply(prime, one, other), 1)
     return total
+
+
+def short_rows(prime, tops, bottom):
+    """Short rows of polynomials that make the same sums of multiples by functions as an echelon, tops over a bottom.
+
+    The rows of an echelon can be far longer. All rows of polynomials among these sums are sums of multiples of the
+    short ones by polynomials. They are sums of such multiples of the rows of the echelon, too, as these have 1 and 0 at
+    their leads; the bottom has to cancel out.
+    """
+    factors = [[(1,) if place == row else () for place in range(len(tops))] for row in range(len(tops))]
+    columns = list(zip(*tops))
+    for column in columns:
+        if any([rest_of(prime, top, bottom) for top in column]):
+            factors = reduced_rows(prime, divisible_rows(prime, factors, column, bottom))
+    rows = [[quotient_of(prime, sum_of_products(prime, row, told), bottom) for told in columns] for row in factors]
+    return reduced_rows(prime, rows)
+
+
+def divisible_rows(prime, factors, column, bottom):
+    """Rows of factors of which all others are sums with a product with a column that the bottom divides.
+
+    The rests of the products and the bottom itself are divided by each other until only one is not 0.
+    """
+    rests = [rest_of(prime, sum_of_products(prime, row, column), bottom) for row in factors]
+    rests.append(bottom)
+    rows = [list(row) for row in factors]
+    rows.append([() for _ in column])
+    sizes = sorted([(len(rest), place) for place, rest in enumerate(rests) if rest])
+    while len(sizes) > 1:
+        least = sizes[0][1]
+        for _, place in sizes[1:]:
+            quotient, rests[place] = divide(prime, rests[place], rests[least])
+            rows[place] = less_multiple(prime, rows[place], rows[least], quotient)
+        sizes = sorted([(len(rest), place) for place, rest in enumerate(rests) if rest])
+    return rows[:sizes[0][1]] + rows[sizes[0][1] + 1:]
+
+
+def less_multiple(prime, row, other, factor):
+    """A row less the multiple of another one by a polynomial."""
+    return [add_scaled(prime, entry, multiply(prime, factor, further), -1) for entry, further in zip(row, other)]
+
+
+def reduced_rows(prime, rows):
+    """Independent rows of polynomials, less multiples of each other until the last longest entries stand apart.
+
+    Then no sum of multiples is shorter than the rows that it is made of.
+    """
+    found = [list(row) for row in rows]
+    pair = pair_to_reduce(found)
+    while pair is not None:
+        high, low, column = pair
+        shift = len(found[high][column]) - len(found[low][column])
+        factor = quotient_of(prime, found[high][column][-1:], found[low][column][-1:])
+        found[high] = less_multiple(prime, found[high], found[low], (0,) * shift + factor)
+        pair = pair_to_reduce(found)
+    return found
+
+
+def pair_to_reduce(rows):
+    """The triple of a row, of another one that is not longer, and of the column of the last longest entries of both."""
+    found = {}
+    for place, row in enumerate(rows):
+        sizes = [len(entry) for entry in row]
+        size = max(sizes)
+        column = max([index for index, further in enumerate(sizes) if further == size])
+        if column in found:
+            other, other_size = found[column]
+            return (place, other, column) if size >= other_size else (other, place, column)
+        found[column] = (place, size)
+    return None

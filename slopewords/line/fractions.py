@@ -4,11 +4,11 @@ from math import gcd, lcm
 
 from slopewords.base.arithmetic import common_divisor, divide_short, is_integer, is_within, multiply_short, quotient_of
 from slopewords.base.arithmetic import slope_of, trimmed
-from slopewords.base.integers import content_of, fraction_roots, is_prime, primitive_of, simple_of, through_values
-from slopewords.base.integers import whole_common, whole_product, whole_quotient, whole_resultant, whole_slope
-from slopewords.base.integers import whole_sum, whole_times
 from slopewords.base.polys import check_prime
 from slopewords.errors import InvalidNumber, InvalidOperation, InvalidPoly, Refused
+from slopewords.exact.integers import content_of, fraction_roots, is_prime, primitive_of, simple_of, through_values
+from slopewords.exact.integers import whole_common, whole_product, whole_quotient, whole_resultant, whole_slope
+from slopewords.exact.integers import whole_sum, whole_times
 from slopewords.func.functions import Function
 from slopewords.line.tables import table_kernel
 

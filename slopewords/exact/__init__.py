@@ -1,0 +1,1 @@
+"""Polynomials with integers of any sizes."""
