@@ -4,14 +4,14 @@ from slopewords.base.arithmetic import add_scaled, common_divisor, is_integer, m
 from slopewords.errors import InvalidOperation, TooMany
 from slopewords.func.functions import Function, check_same_prime, join_parts, short_functions
 from slopewords.kin.flats import flat_echelon
-from slopewords.line.elimination import kernel_columns
+from slopewords.line.elimination import count_rank, eliminate, kernel_columns, without_content
 from slopewords.oper.common import division_rows, last_rest, made_monic
 from slopewords.oper.division import divide_right
 from slopewords.oper.operators import Operator, check_operator, made_operator, multiply_operator
 from slopewords.turn.norms import norm_of
 from slopewords.turn.roots import linear_power, rest_without, roots_of, rows_at_turn
 from slopewords.turn.turns import is_long, ranks_of_powers
-from slopewords.turn.whole import first_tops, tops_by_division
+from slopewords.turn.whole import first_tops, idle_tops, product_tops, tops_by_division
 
 MAX_LED = 3
 MAX_TOP = 24
@@ -46,8 +46,41 @@ def base_between(one, other):
 
 def rows_between(one, other):
     """The rows of the echelon base: those of all tables between the turns whose entries fulfil a system."""
-    columns = kernel_columns(one.prime, turn_system(one, other))
-    return flat_echelon(one.prime, slope_system(one, other), columns, one.degree)
+    return flat_echelon(one.prime, slope_system(one, other), tables_between(one, other), one.degree)
+
+
+def tables_between(one, other):
+    """A base of all tables S with turn S = S turn, for the turns of the other one and of one, row by row.
+
+    If the first rows of the powers of the left turn are independent, the first row s of S tells all of S: these rows
+    times S are the products of s and the powers of the right turn. All rows s do of which the norm of the other one,
+    with the right turn for y, makes 0.
+    """
+    prime, size = one.prime, one.degree
+    left, bottom = tops_by_division(other, prime)
+    left_rows = power_rows(prime, idle_tops(len(left))[0], left, bottom, len(left))
+    if count_rank(prime, left_rows) < len(left):
+        return kernel_columns(prime, turn_system(one, other))
+    right, bottom = tops_by_division(one, prime)
+    nulled = rows_at_turn(one, norm_of(other))
+    starts = kernel_columns(prime, [list(column) for column in zip(*nulled)])
+    table = left_rows
+    for start in starts:
+        products = power_rows(prime, start, right, bottom, len(left))
+        table = [row + further for row, further in zip(table, products)]
+    rows = eliminate(prime, table, len(left), whole=True)[0]
+    places = range(len(left), len(left) + size * len(starts), size)
+    return [without_content(prime, [entry for row in rows for entry in row[place:place + size]]) for place in places]
+
+
+def power_rows(prime, row, tops, bottom, many):
+    """The products of a row and of so many powers of a table over bottom ** prime, itself first, over one bottom."""
+    lift = power_of(prime, bottom, prime)
+    found = [list(row)]
+    for _ in range(many - 1):
+        found.append(product_tops(prime, [found[-1]], tops)[0])
+    return [[multiply(prime, entry, power_of(prime, lift, many - 1 - number)) for entry in further]
+            for number, further in enumerate(found)]
 
 
 def operator_of_parts(prime, row):
