@@ -179,7 +179,8 @@ class Reader:
         many = self.raised_to(room)
         return Operator.slopes(self._prime, many), many
 
-    def end(self):
-        """Refuse all signs but the end."""
+    def whole(self, found):
+        """What was read; refused if a sign stands behind it."""
         if self.seen():
             self.fail(self._spot)
+        return found

@@ -47,33 +47,25 @@ def reader_of(prime, text):
 def read_poly(prime, text):
     """The polynomial of a text."""
     reader = reader_of(prime, text)
-    poly = reader.polynomial()
-    reader.end()
-    return poly
+    return reader.whole(reader.polynomial())
 
 
 def read_function(prime, text):
     """The function of a text."""
     reader = reader_of(prime, text)
-    function = reader.quotient()
-    reader.end()
-    return function
+    return reader.whole(reader.quotient())
 
 
 def read_operator(prime, text):
     """The operator of a text."""
     reader = reader_of(prime, text)
-    operator = reader.sum_of_parts()
-    reader.end()
-    return operator
+    return reader.whole(reader.sum_of_parts())
 
 
 def read_word(prime, text):
     """The operator of a word."""
     reader = reader_of(prime, text)
-    operator = reader.word()
-    reader.end()
-    return operator
+    return reader.whole(reader.word())
 
 
 def signs(text):
@@ -93,8 +85,7 @@ def is_written(prime, value):
         return False
     reader = Reader(prime, value)
     try:
-        operator = reader.sum_of_parts()
-        reader.end()
+        operator = reader.whole(reader.sum_of_parts())
     except ParseError:
         return False
     return str(operator) == value
