@@ -5,6 +5,7 @@ import unittest
 from slopewords.errors import InvalidOperation, InvalidTable, TooMany
 from slopewords.func.functions import Function
 from slopewords.kin.systems import is_system_paper, system_base, system_paper, system_turn, table_of_operator
+from slopewords.kin.telling import operator_of_row, row_steps
 from slopewords.line.tables import echelon, idle_table, own_poly, table_kernel, table_plus, table_product, table_rank
 from slopewords.line.tables import table_slope, undone_table
 from slopewords.made.rows import made_base
@@ -12,7 +13,7 @@ from slopewords.oper.operators import Operator
 from slopewords.turn.roots import roots
 from slopewords.turn.turns import turn
 from tests.support import BAR, D3, EMPTY3, KINDS, LOGS, NO, ONE, PRIMES, X2, X3, Source, check_error, check_refusals
-from tests.support import joined, operator_kind, parts_row, table_kind, value_kind, wrong_tables
+from tests.support import joined, longest, operator_kind, parts_row, table_kind, value_kind, wrong_tables
 
 NONE2 = Function.number(2, 0)
 SYSTEMS = (system_base, system_turn, system_paper)
@@ -308,6 +309,111 @@ class PapersTest(Samples):
             operator = Operator.factor(table[0][0] + long.slope() // long)
             self.assertIs(is_system_paper(table, ("row", (long,), operator)), True)
             self.assertIs(is_system_paper(table, ("row", (long,), Operator.factor(table[0][0]))), False)
+
+
+class ShortPapersTest(Samples):
+    """The polynomials of a telling row and of its operator have degrees of at most 400 [0.6]."""
+
+    def drawn(self, prime, degree):
+        """A function with a top and a bottom of a degree."""
+        return Function(prime, self.source.poly(prime, degree), self.source.poly(prime, degree))
+
+    def table(self, prime, pattern, degree):
+        """A table with drawn functions at the stars of a pattern."""
+        return tuple(tuple(self.drawn(prime, degree) if sign == "*" else zero(prime) for sign in row) for row in pattern)
+
+    def told(self, prime, degree):
+        """The table of the issue that asked for the bound: its row (0, 0, 0, 1) has a far shorter operator than others."""
+        def entry(first, second):
+            top = (first % prime,) + (0,) * (degree - 1) + (1,)
+            return Function(prime, top, (second % prime, 1) + (0,) * (degree - 2) + (1,))
+        none = zero(prime)
+        return ((entry(0, 1), entry(6, 6), entry(5, 5), entry(4, 4)), (entry(3, 3), none, none, none),
+                (none, entry(2, 2), none, none), (none, none, entry(1, 1), none))
+
+    def blocks(self, one, other):
+        """The system of two systems with two rows each, side by side."""
+        none = (zero(one[0][0].prime),) * 2
+        return tuple((*row, *none) for row in one) + tuple((*none, *row) for row in other)
+
+    def moved(self, table, rows):
+        """The system whose columns, multiplied by a table of rows, fulfil another one."""
+        undone = undone_table(rows)
+        found = table_product(undone, table_plus(table_product(tuple(table), rows), table_slope(rows), times=-1))
+        self.assertTrue(self.is_short(found))
+        return found
+
+    def check_short(self, table):
+        """There is a right paper with a telling row, within the bound."""
+        paper = system_paper(table)
+        self.assertEqual(paper[0], "row")
+        self.assertIs(is_system_paper(table, paper), True)
+        functions = [*paper[1], *paper[2]]
+        self.assertLessEqual(max(max(len(one.top), len(one.bottom)) - 1 for one in functions), 400)
+
+    def test_one_short_row(self):
+        """The rows and columns of the told table are exchanged alike: another row has the short operator."""
+        for prime, degree, order in ((7, 24, (1, 3, 0, 2)), (5, 24, (3, 0, 2, 1)), (3, 24, (2, 0, 3, 1)),
+                                     (2, 24, (0, 2, 3, 1))):
+            told = self.told(prime, degree)
+            self.check_short(tuple(tuple(told[row][column] for column in order) for row in order))
+        self.check_short(tuple(zip(*self.told(7, 24))))
+
+    def test_hidden_short_rows(self):
+        """The row (0, 0, 0, 1) has a short operator until it becomes (0, 0, x, 1)."""
+        for prime in PRIMES:
+            table = [list(row) for row in self.table(prime, ("**..", "*...", "....", "...."), 24)]
+            for row, column, degree in ((0, 2, 12), (0, 3, 12), (2, 1, 24), (3, 2, 24)):
+                bottom = self.source.poly(prime, degree)
+                table[row][column] = Function(prime, self.source.poly(prime, degree - 2), bottom)
+            rows = [list(row) for row in idle_table(prime, 4)]
+            rows[3][2] = Function.letter(prime)
+            self.check_short(self.moved([tuple(row) for row in table], tuple(tuple(row) for row in rows)))
+
+    def test_only_multiples(self):
+        """No row with one 1 is short enough, but a multiple of one is."""
+        for prime, pattern, degree in ((7, ("***",) * 3, 22), (5, ("***",) * 3, 22), (3, ("***",) * 3, 23),
+                                       (7, ("****",) * 4, 9), (5, ("****", "**..", ".**.", "..**"), 22)):
+            table = self.table(prime, pattern, degree)
+            for row in idle_table(prime, len(pattern)):
+                self.assertGreater(longest([operator_of_row(row_steps(table, row))]), 400)
+            self.check_short(table)
+
+    def test_undone_multiples(self):
+        """A short row is hidden by a function that multiplies it, at the top or at the bottom."""
+        for prime in (7, 3):
+            by = self.source.poly(prime, 12)
+            for function in (Function(prime, by, (1,)), Function(prime, (1,), by)):
+                table = self.table(prime, ("****", "*...", ".*..", "..*."), 12)
+                self.check_short(self.moved(table, self.sum_of([one_of(prime)] * 3 + [function])))
+
+    def test_sums(self):
+        """Telling rows need several entries; blocks that are equal need multiples by x."""
+        for prime in PRIMES:
+            block = self.table(prime, ("**", "*."), 16)
+            other = self.table(prime, ("**", "*."), 14)
+            self.check_short(self.blocks(block, block))
+            self.check_short(self.blocks(block, other))
+            self.check_short(self.sum_of([self.drawn(prime, 24) for _ in range(4)]))
+        full = self.table(7, ("**", "**"), 22)
+        self.check_short(self.blocks(full, full))
+
+    def test_no_short_row(self):
+        """Where no short row is found, the paper is a right one all the same."""
+        table = self.table(2, ("****",) * 4, 16)
+        paper = system_paper(table)
+        self.assertEqual(paper[0], "row")
+        self.assertIs(is_system_paper(table, paper), True)
+
+    def test_judged_degrees(self):
+        """All telling rows are right, with operators of any degrees."""
+        table = self.told(7, 24)
+        for place, degree in ((0, 575), (3, 288)):
+            row = tuple(Function.number(7, int(place == index)) for index in range(4))
+            operator = operator_of_row(row_steps(table, row))
+            self.assertEqual(longest([operator]), degree)
+            self.assertIs(is_system_paper(table, ("row", row, operator)), True)
+            self.assertIs(is_system_paper(table, ("row", row, operator + Operator.times(one_of(7)))), False)
 
 
 class SayingsTest(unittest.TestCase):

@@ -247,6 +247,23 @@ def square_free_rows(prime, poly):
     return rows
 
 
+def coprime_parts(prime, polys):
+    """Polynomials without common divisors, of degrees above 0: each one of some others is a product of their powers."""
+    found = []
+    rest = list(polys)
+    while rest:
+        poly = rest.pop()
+        commons = [common_divisor(prime, poly, part) for part in found]
+        shared = [place for place, common in enumerate(commons) if len(common) > 1]
+        if shared:
+            common = commons[shared[0]]
+            part = found.pop(shared[0])
+            rest.extend([common, quotient_of(prime, part, common), quotient_of(prime, poly, common)])
+        elif len(poly) > 1:
+            found.append(poly)
+    return found
+
+
 def kernel_of_numbers(prime, table):
     """A base of all columns of numbers that a square table of numbers makes 0."""
     rows = [list(row) for row in table]

@@ -1,12 +1,14 @@
 """Systems: columns of functions whose slopes are a table times the column."""
 
-from slopewords.base.arithmetic import add_scaled, is_integer, multiply, power_of, slope_of, spread_out, trimmed
+from slopewords.base.arithmetic import is_integer, multiply, power_of, spread_out, trimmed
 from slopewords.errors import InvalidTable, TooMany
-from slopewords.func.functions import Function, clear_bottoms, join_parts, power_quotient, slope_top
+from slopewords.func.functions import Function, clear_bottoms, join_parts, power_quotient
 from slopewords.kin.flats import flat_echelon
+from slopewords.kin.shorter import short_pair
+from slopewords.kin.telling import operator_of_row, row_steps
 from slopewords.line.elimination import count_rank, kernel_columns, own_numbers
-from slopewords.line.tables import clear_rows, is_row, is_table, multiply_tables, solved
-from slopewords.oper.operators import Operator, made_operator
+from slopewords.line.tables import clear_rows, is_row, is_table
+from slopewords.oper.operators import Operator
 from slopewords.turn.roots import roots_of
 from slopewords.turn.turns import MAX_DEGREE, MAX_TOP, check_turning, is_long
 from slopewords.turn.whole import idle_tops, product_tops, quotients, slope_tops, sum_tops
@@ -81,8 +83,8 @@ def system_paper(table):
         many = missing_rank(prime, system, root)
         if many > prime:
             return "piece", root, many
-    row = quotients(prime, [telling_row(prime, system)], (1,), 0)[0]
-    return "row", row, operator_of_row(row_steps(table, row))
+    row, operator = short_pair(table, system)
+    return "row", row, operator
 
 
 def roots_of_turn(prime, system):
@@ -100,80 +102,6 @@ def missing_rank(prime, system, root):
     turned = [[multiply(prime, top, lift) for top in row] for row in turned_system(prime, system)]
     due = [[multiply(prime, top, taken) for top in row] for row in idle_tops(size)]
     return size - count_rank(prime, sum_tops(prime, turned, due, -1))
-
-
-def telling_row(prime, system):
-    """A telling row of polynomials, for a system that has one: all rows are tried, each one improved first."""
-    number = 0
-    row, rank = improved_row(prime, system, numbered_row(prime, len(system[0]), number))
-    while rank < len(row):
-        number += 1
-        row, rank = improved_row(prime, system, numbered_row(prime, len(row), number))
-    return row
-
-
-def improved_row(prime, system, row):
-    """A row with powers of x added to its entries, as long as more rows become independent so, and how many are."""
-    size = len(row)
-    rank = row_rank(prime, system, row)
-    power = 0
-    while rank < size and power < prime:
-        ranks = [row_rank(prime, system, with_power(prime, row, place, power)) for place in range(size)]
-        power += 1
-        if max(ranks) > rank:
-            rank = max(ranks)
-            row = with_power(prime, row, ranks.index(rank), power - 1)
-            power = 0
-    return row, rank
-
-
-def with_power(prime, row, place, power):
-    """A row of polynomials with a power of x added to one of them."""
-    return row[:place] + [add_scaled(prime, row[place], (0,) * power + (1,), 1)] + row[place + 1:]
-
-
-def numbered_row(prime, size, number):
-    """The row of polynomials that has the digits of a number: each row has just one number."""
-    digits = []
-    while number:
-        digits.append(number % prime)
-        number = number // prime
-    return [trimmed(digits[place::size]) for place in range(size)]
-
-
-def row_rank(prime, system, row):
-    """How many of r0, .., r(n - 1) are independent for a row of polynomials."""
-    return count_rank(prime, further_tops(prime, system, row, len(row) - 1))
-
-
-def further_tops(prime, system, row, many):
-    """The rows r0, r1 and so on up to a number, each one over the power of the bottom that its number tells."""
-    tops, bottom = system
-    slope = slope_of(prime, bottom)
-    found = [row]
-    for number in range(many):
-        slopes = [slope_top(prime, entry, bottom, slope, number) for entry in found[-1]]
-        moved = product_tops(prime, [found[-1]], tops)[0]
-        found.append([add_scaled(prime, entry, further, 1) for entry, further in zip(slopes, moved)])
-    return found
-
-
-def row_steps(table, row):
-    """The rows r0, .., rn of functions: each next one is the slope of the last one and its product with the table."""
-    rows = [row]
-    for _ in table:
-        moved = multiply_tables((rows[-1],), table)[0]
-        rows.append(tuple([entry.slope() + further for entry, further in zip(rows[-1], moved)]))
-    return rows
-
-
-def operator_of_row(rows):
-    """The monic operator whose functions, times the rows of a telling row, add up to 0."""
-    upper = rows[:-1]
-    table = tuple([column for column in zip(*upper)])
-    entries = solved(table, tuple([-entry for entry in rows[-1]]))
-    prime = rows[0][0].prime
-    return made_operator(prime, [*entries, Function.number(prime, 1)])
 
 
 def is_system_paper(table, value):
