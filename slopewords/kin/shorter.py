@@ -10,11 +10,11 @@ from slopewords.kin.poles import image_rows, pole_degree, pole_groups, short_bas
 from slopewords.kin.remainders import FAR, NEAR
 from slopewords.kin.telling import glass_of, improved_row, may_be_short, operator_of_row, row_steps, telling_row
 from slopewords.line.elimination import sum_of_products, without_content
-from slopewords.turn.whole import quotients
+from slopewords.turn.whole import idle_tops, quotients
 
 # The bound of the conventions for the degrees of polynomials in any one of several results.
 MOST_SHORT = 400
-# A multiple is worked out if what is told of its degree is above the bound by at most so much: it is a bit too high.
+# What is told ahead of a degree is often a bit too high, so that it can be above the bound by so much.
 SPARE = 12
 MOST_SUMS = 64
 MOST_TRIED = 32
@@ -76,7 +76,7 @@ def first_short_pair(table, system, known):
         if len(tried) > MOST_TRIED:
             break
         tried[tuple(row)] = True
-        if may_be_short(far, row, MOST_SHORT):
+        if may_be_short(far, row, MOST_SHORT + SPARE):
             pair = pair_of(table, quotients(prime, [row], (1,), 0)[0])
             shorter = pair if is_short_pair(pair) else short_multiple(table, system, row, pair[1])
             if shorter is not None:
@@ -87,8 +87,8 @@ def first_short_pair(table, system, known):
 def rows_to_try(prime, groups, size):
     """Pairs of a row of polynomials and of a list of rows whose multiples can be added to it.
 
-    First come sums of rows of short bases, those that get the least poles ahead. Behind them stand sums of two rows,
-    one of which is multiplied by a polynomial.
+    First come the rows of 0 and of one 1, then other sums of rows of short bases, those that get the least poles ahead.
+    Behind them stand sums of two rows, one of which is multiplied by a polynomial.
     """
     lists = [parts for base in short_bases(prime, groups, size) for parts in parts_of(base)]
     lists.extend([[row] for row in image_rows(prime, groups)])
@@ -97,8 +97,10 @@ def rows_to_try(prime, groups, size):
         row = normal_row(prime, sum_row(prime, parts, (1,)))
         if tuple(row) not in found:
             found[tuple(row)] = parts
-    order = sorted([(pole_degree(prime, key, groups), len(parts), key) for key, parts in found.items()])
-    sums = [(list(key), found[key]) for _, _, key in order[:MOST_SUMS]]
+    units = [tuple(row) for row in idle_tops(size)]
+    order = sorted([(key not in units, pole_degree(prime, key, groups), len(parts), key)
+                    for key, parts in found.items()])
+    sums = [(list(key), found[key]) for _, _, _, key in order[:MOST_SUMS]]
     factors = [(number,) for number in range(2, prime)] + [(number, 1) for number in range(prime)]
     return sums + [(sum_row(prime, parts, factor), []) for _, parts in sums if len(parts) == 2 for factor in factors]
 
